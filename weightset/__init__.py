@@ -1,1 +1,1 @@
-"""Weightset: sets of weights each there once, and what can be weighed with them."""
+"""Weightset: sets of weights each there once, what can be weighed, and the fewest more so that all can."""
